@@ -1,0 +1,47 @@
+// Package pooler: pools of servers, laid out by a text, and taken over from one text to another: see DOC.md.
+package pooler
+
+import (
+	"pooler/api"
+	"pooler/layout"
+	"pooler/table"
+)
+
+// Pooler is some pools, their servers, and who waits.
+type Pooler struct{}
+
+// Compile makes the table of a text; with an error, the line (P3, P4).
+func Compile(text string) (api.Table, api.Errno, int) { return layout.Compile(text) }
+
+// Print writes a table as a text (P5).
+func Print(t api.Table) (string, api.Errno) { return table.Print(t) }
+
+// New begins with the table of a text (P6).
+func New(text string) (*Pooler, api.Errno, int) { return nil, api.OK, 0 }
+
+// Show tells all that there is (P6).
+func (p *Pooler) Show() api.State { return api.State{} }
+
+// Ask wants a server for a client (P8).
+func (p *Pooler) Ask(client int, pool string) (int, api.Errno) { return 0, api.OK }
+
+// Done ends a client's lease (P9).
+func (p *Pooler) Done(client int) api.Errno { return api.OK }
+
+// Leave ends a client's waiting (P9).
+func (p *Pooler) Leave(client int) api.Errno { return api.OK }
+
+// Crash ends a server (P9).
+func (p *Pooler) Crash(id int) api.Errno { return api.OK }
+
+// Diff makes the steps from one table to another (P10).
+func Diff(a api.Table, b api.Table) ([]api.Step, api.Errno) { return nil, api.OK }
+
+// Reload plans the way to the table of a text (P11).
+func (p *Pooler) Reload(text string) (int, api.Errno, int) { return 0, api.OK, 0 }
+
+// Turn goes on with the plan (P12).
+func (p *Pooler) Turn() (int, api.Errno) { return 0, api.OK }
+
+// Abort plans the way back (P13).
+func (p *Pooler) Abort() (int, api.Errno) { return 0, api.OK }

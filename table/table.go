@@ -1,0 +1,50 @@
+// Package table: what a table is, and its text.
+package table
+
+import "pooler/api"
+
+// IsTable tells whether t is a table.
+func IsTable(t api.Table) bool {
+	if !Fits(Budget, t.Budget) || len(t.Pools) > api.MaxPools {
+		return false
+	}
+	// No name is below the empty one, so the first pool need not be told apart.
+	last := ""
+	for i := 0; i < len(t.Pools); i++ {
+		if !isPool(t.Pools[i]) || t.Pools[i].Name <= last {
+			return false
+		}
+		last = t.Pools[i].Name
+	}
+	return true
+}
+
+func isPool(p api.Pool) bool {
+	if !IsName(p.Name) {
+		return false
+	}
+	if !Fits(Size, p.Size) {
+		return false
+	}
+	if !Fits(Wait, p.Wait) {
+		return false
+	}
+	return Fits(Far, p.Far)
+}
+
+// Insert answers a fresh list: the pools, whose names rise, and p at its place among them.
+func Insert(pools []api.Pool, p api.Pool) []api.Pool {
+	longer := []api.Pool{}
+	placed := false
+	for i := 0; i < len(pools); i++ {
+		if !placed && p.Name < pools[i].Name {
+			longer = append(longer, p)
+			placed = true
+		}
+		longer = append(longer, pools[i])
+	}
+	if !placed {
+		longer = append(longer, p)
+	}
+	return longer
+}
