@@ -4,11 +4,14 @@ package pooler
 import (
 	"pooler/api"
 	"pooler/layout"
+	"pooler/lease"
 	"pooler/table"
 )
 
 // Pooler is some pools, their servers, and who waits.
-type Pooler struct{}
+type Pooler struct {
+	desk lease.Desk
+}
 
 // Compile makes the table of a text; with an error, the line (P3, P4).
 func Compile(text string) (api.Table, api.Errno, int) { return layout.Compile(text) }
@@ -17,22 +20,28 @@ func Compile(text string) (api.Table, api.Errno, int) { return layout.Compile(te
 func Print(t api.Table) (string, api.Errno) { return table.Print(t) }
 
 // New begins with the table of a text (P6).
-func New(text string) (*Pooler, api.Errno, int) { return nil, api.OK, 0 }
+func New(text string) (*Pooler, api.Errno, int) {
+	t, e, line := layout.Compile(text)
+	if e != api.OK {
+		return nil, e, line
+	}
+	return &Pooler{desk: lease.Open(t)}, api.OK, 0
+}
 
 // Show tells all that there is (P6).
-func (p *Pooler) Show() api.State { return api.State{} }
+func (p *Pooler) Show() api.State { return p.desk.Show() }
 
 // Ask wants a server for a client (P8).
-func (p *Pooler) Ask(client int, pool string) (int, api.Errno) { return 0, api.OK }
+func (p *Pooler) Ask(client int, pool string) (int, api.Errno) { return p.desk.Ask(client, pool) }
 
 // Done ends a client's lease (P9).
-func (p *Pooler) Done(client int) api.Errno { return api.OK }
+func (p *Pooler) Done(client int) api.Errno { return p.desk.Done(client) }
 
 // Leave ends a client's waiting (P9).
-func (p *Pooler) Leave(client int) api.Errno { return api.OK }
+func (p *Pooler) Leave(client int) api.Errno { return p.desk.Leave(client) }
 
 // Crash ends a server (P9).
-func (p *Pooler) Crash(id int) api.Errno { return api.OK }
+func (p *Pooler) Crash(id int) api.Errno { return p.desk.Crash(id) }
 
 // Diff makes the steps from one table to another (P10).
 func Diff(a api.Table, b api.Table) ([]api.Step, api.Errno) { return nil, api.OK }

@@ -48,3 +48,19 @@ func Insert(pools []api.Pool, p api.Pool) []api.Pool {
 	}
 	return longer
 }
+
+// Find is the pool of this name; false: there is none.
+func Find(pools []api.Pool, name string) (api.Pool, bool) {
+	for i := 0; i < len(pools); i++ {
+		if pools[i].Name == name {
+			return pools[i], true
+		}
+	}
+	return api.Pool{}, false
+}
+
+// Copy is the same table, with a list of its own.
+func Copy(t api.Table) api.Table {
+	pools := append([]api.Pool{}, t.Pools...)
+	return api.Table{Budget: t.Budget, Pools: pools}
+}

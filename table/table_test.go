@@ -65,3 +65,35 @@ func TestInsert(t *testing.T) {
 		}
 	}
 }
+
+func TestFind(t *testing.T) {
+	pools := []api.Pool{{Name: "a", Size: 1}, {Name: "ab", Size: 2}, {Name: "b", Size: 3}}
+	for i, name := range []string{"a", "ab", "b"} {
+		if p, ok := Find(pools, name); !ok || p != pools[i] {
+			t.Errorf("Find(%s) = %+v, %t", name, p, ok)
+		}
+	}
+	for _, name := range []string{"", "A", "abc", "c", "a "} {
+		if p, ok := Find(pools, name); ok {
+			t.Errorf("Find(%q) = %+v", name, p)
+		}
+	}
+	if _, ok := Find(nil, ""); ok {
+		t.Error("Find in no pools")
+	}
+}
+
+func TestCopy(t *testing.T) {
+	room := []api.Pool{{Name: "a"}, {Name: "b"}, {Name: "spare"}}
+	first := Copy(api.Table{Budget: 7, Pools: room[:2]})
+	second := Copy(first)
+	if first.Budget != 7 || len(first.Pools) != 2 || first.Pools[0] != room[0] || first.Pools[1] != room[1] {
+		t.Fatalf("Copy: %+v", first)
+	}
+	for i := range first.Pools[:cap(first.Pools)] {
+		first.Pools[:cap(first.Pools)][i].Name = "x"
+	}
+	if room[0].Name != "a" || room[1].Name != "b" || room[2].Name != "spare" || second.Pools[0].Name != "a" || second.Pools[1].Name != "b" {
+		t.Errorf("copies share room: %v, %v", room, second)
+	}
+}

@@ -1,0 +1,182 @@
+package pooler_test
+
+import (
+	"cmp"
+	"slices"
+
+	"pooler/api"
+)
+
+// model is a second pooler: what P6 to P9 say, written by other means, and held against the program.
+type model struct {
+	table   api.Table
+	servers map[int]*api.Server
+	line    []*api.Waiter
+	opened  int
+}
+
+func newModel(t api.Table) *model {
+	return &model{table: api.Table{Budget: t.Budget, Pools: slices.Clone(t.Pools)}, servers: map[int]*api.Server{}}
+}
+
+func (m *model) show() api.State {
+	s := api.State{Table: api.Table{Budget: m.table.Budget, Pools: slices.Clone(m.table.Pools)}}
+	for _, server := range m.servers {
+		s.Servers = append(s.Servers, *server)
+	}
+	slices.SortFunc(s.Servers, func(a, b api.Server) int { return cmp.Compare(a.Id, b.Id) })
+	for _, w := range m.line {
+		s.Waiters = append(s.Waiters, *w)
+	}
+	return s
+}
+
+func (m *model) pool(name string) *api.Pool {
+	for i := range m.table.Pools {
+		if m.table.Pools[i].Name == name {
+			return &m.table.Pools[i]
+		}
+	}
+	return nil
+}
+
+// those are the servers that a test holds for, by their Ids.
+func (m *model) those(holds func(*api.Server) bool) []*api.Server {
+	found := []*api.Server{}
+	for _, s := range m.servers {
+		if holds(s) {
+			found = append(found, s)
+		}
+	}
+	slices.SortFunc(found, func(a, b *api.Server) int { return cmp.Compare(a.Id, b.Id) })
+	return found
+}
+
+func (m *model) of(name string) []*api.Server {
+	return m.those(func(s *api.Server) bool { return s.Pool == name })
+}
+
+func (m *model) held(client int) *api.Server {
+	found := m.those(func(s *api.Server) bool { return s.Client == client })
+	if len(found) == 0 {
+		return nil
+	}
+	return found[0]
+}
+
+func (m *model) place(client int) int {
+	return slices.IndexFunc(m.line, func(w *api.Waiter) bool { return w.Client == client })
+}
+
+// way is how a waiter can be served: 0 not at all, else by the first, second or third means of P7.
+func (m *model) way(w *api.Waiter) int {
+	p := m.pool(w.Pool)
+	if p == nil {
+		return 0
+	}
+	idle := m.those(func(s *api.Server) bool { return s.Client == 0 })
+	idleHere := m.those(func(s *api.Server) bool { return s.Client == 0 && s.Pool == p.Name })
+	fewer := len(m.of(p.Name)) < p.Size
+	switch {
+	case len(idleHere) > 0:
+		return 1
+	case fewer && len(m.servers) < m.table.Budget:
+		return 2
+	case fewer && len(m.servers) == m.table.Budget && len(idle) > 0:
+		return 3
+	}
+	return 0
+}
+
+func (m *model) serve() {
+	at := slices.IndexFunc(m.line, func(w *api.Waiter) bool { return m.way(w) > 0 })
+	if at < 0 {
+		return
+	}
+	w := m.line[at]
+	way := m.way(w)
+	if way == 1 {
+		m.those(func(s *api.Server) bool { return s.Client == 0 && s.Pool == w.Pool })[0].Client = w.Client
+	}
+	if way == 3 {
+		delete(m.servers, m.those(func(s *api.Server) bool { return s.Client == 0 })[0].Id)
+	}
+	if way == 2 || way == 3 {
+		m.opened++
+		m.servers[m.opened] = &api.Server{Id: m.opened, Pool: w.Pool, Far: m.pool(w.Pool).Far, Client: w.Client}
+	}
+	m.line = slices.Delete(m.line, at, at+1)
+	m.serve()
+}
+
+func (m *model) surplus(s *api.Server) bool {
+	p := m.pool(s.Pool)
+	return p == nil || p.Far != s.Far || len(m.of(s.Pool)) > p.Size || len(m.servers) > m.table.Budget
+}
+
+func (m *model) ask(client int, name string) (int, api.Errno) {
+	if client < 1 || client > 99 {
+		return 0, api.ErrClient
+	}
+	if m.held(client) != nil || m.place(client) >= 0 {
+		return 0, api.ErrBusy
+	}
+	p := m.pool(name)
+	if p == nil {
+		return 0, api.ErrPool
+	}
+	m.line = append(m.line, &api.Waiter{Client: client, Pool: name})
+	m.serve()
+	if s := m.held(client); s != nil {
+		return s.Id, api.OK
+	}
+	waiting := 0
+	for _, w := range m.line {
+		if w.Pool == name {
+			waiting++
+		}
+	}
+	if waiting > p.Wait {
+		at := m.place(client)
+		m.line = slices.Delete(m.line, at, at+1)
+		return 0, api.ErrFull
+	}
+	return 0, api.OK
+}
+
+func (m *model) done(client int) api.Errno {
+	if client < 1 || client > 99 {
+		return api.ErrClient
+	}
+	s := m.held(client)
+	if s == nil {
+		return api.ErrIdle
+	}
+	s.Client = 0
+	if m.surplus(s) {
+		delete(m.servers, s.Id)
+	}
+	m.serve()
+	return api.OK
+}
+
+func (m *model) leave(client int) api.Errno {
+	if client < 1 || client > 99 {
+		return api.ErrClient
+	}
+	at := m.place(client)
+	if at < 0 {
+		return api.ErrIdle
+	}
+	m.line = slices.Delete(m.line, at, at+1)
+	return api.OK
+}
+
+func (m *model) crash(id int) api.Errno {
+	if m.servers[id] == nil {
+		return api.ErrServer
+	}
+	delete(m.servers, id)
+	m.serve()
+	return api.OK
+}
