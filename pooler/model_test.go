@@ -180,3 +180,43 @@ func (m *model) crash(id int) api.Errno {
 	m.serve()
 	return api.OK
 }
+
+// modelDiff gathers what P10 says in whatever order it comes, and sorts it.
+func modelDiff(a, b api.Table) []api.Step {
+	was, will := byName(a.Pools), byName(b.Pools)
+	steps := map[api.Step]bool{
+		{Kind: api.Cut, N: b.Budget}:   b.Budget < a.Budget,
+		{Kind: api.Raise, N: b.Budget}: b.Budget > a.Budget,
+	}
+	for name := range was {
+		if _, stays := will[name]; !stays {
+			steps[api.Step{Kind: api.Drop, Name: name}] = true
+		}
+	}
+	for name, p := range will {
+		old, both := was[name]
+		steps[api.Step{Kind: api.Add, Name: name}] = !both
+		steps[api.Step{Kind: api.Shrink, Name: name, N: p.Size}] = both && p.Size < old.Size
+		steps[api.Step{Kind: api.Grow, Name: name, N: p.Size}] = p.Size > old.Size
+		steps[api.Step{Kind: api.Move, Name: name, N: p.Far}] = p.Far != old.Far
+		steps[api.Step{Kind: api.Hold, Name: name, N: p.Wait}] = p.Wait != old.Wait
+	}
+	found := []api.Step{}
+	for step, wanted := range steps {
+		if wanted {
+			found = append(found, step)
+		}
+	}
+	slices.SortFunc(found, func(a, b api.Step) int {
+		return cmp.Or(cmp.Compare(a.Kind, b.Kind), cmp.Compare(a.Name, b.Name))
+	})
+	return found
+}
+
+func byName(pools []api.Pool) map[string]api.Pool {
+	named := map[string]api.Pool{}
+	for _, p := range pools {
+		named[p.Name] = p
+	}
+	return named
+}

@@ -5,6 +5,7 @@ import (
 	"pooler/api"
 	"pooler/layout"
 	"pooler/lease"
+	"pooler/plan"
 	"pooler/table"
 )
 
@@ -44,7 +45,7 @@ func (p *Pooler) Leave(client int) api.Errno { return p.desk.Leave(client) }
 func (p *Pooler) Crash(id int) api.Errno { return p.desk.Crash(id) }
 
 // Diff makes the steps from one table to another (P10).
-func Diff(a api.Table, b api.Table) ([]api.Step, api.Errno) { return nil, api.OK }
+func Diff(a api.Table, b api.Table) ([]api.Step, api.Errno) { return plan.Diff(a, b) }
 
 // Reload plans the way to the table of a text (P11).
 func (p *Pooler) Reload(text string) (int, api.Errno, int) { return 0, api.OK, 0 }

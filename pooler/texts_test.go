@@ -299,13 +299,10 @@ func TestP5Print(t *testing.T) {
 	}
 }
 
-func TestP5NoTable(t *testing.T) {
+// noTables are tables that are none, for one reason each.
+func noTables() []api.Table {
 	good := pool("b", 1, 1, 1)
-	many := []api.Pool{}
-	for _, name := range strings.Split("abcdefg", "") {
-		many = append(many, pool(name, 1, 1, 1))
-	}
-	bad := []api.Table{{}, tableOf(5, good, good), tableOf(5, good, pool("a", 1, 1, 1)), tableOf(5, good, pool("ba", 1, 1, 1), pool("aa", 1, 1, 1)), tableOf(5, many...)}
+	bad := []api.Table{{}, tableOf(5, good, good), tableOf(5, good, pool("a", 1, 1, 1)), tableOf(5, good, pool("ba", 1, 1, 1), pool("aa", 1, 1, 1)), tableOf(5, letterPools("abcdefg")...)}
 	for _, n := range []int{math.MinInt, -1, 0, 100, math.MaxInt} {
 		bad = append(bad, tableOf(n), tableOf(n, good))
 	}
@@ -318,12 +315,25 @@ func TestP5NoTable(t *testing.T) {
 	for _, name := range []string{"", "A", "a1", "a b", " a", "a\n", "abcdefghi", "\xff"} {
 		bad = append(bad, tableOf(5, pool(name, 0, 0, 0)))
 	}
-	for _, b := range bad {
+	return bad
+}
+
+// letterPools has a pool for each letter.
+func letterPools(letters string) []api.Pool {
+	pools := []api.Pool{}
+	for _, name := range strings.Split(letters, "") {
+		pools = append(pools, pool(name, 1, 1, 1))
+	}
+	return pools
+}
+
+func TestP5NoTable(t *testing.T) {
+	for _, b := range noTables() {
 		if got, e := pooler.Print(b); got != "" || e != api.ErrTable {
 			t.Errorf("Print(%+v) = %q, %d", b, got, e)
 		}
 	}
-	if _, e := pooler.Print(tableOf(5, many[:6]...)); e != api.OK {
+	if _, e := pooler.Print(tableOf(5, letterPools("abcdef")...)); e != api.OK {
 		t.Errorf("Print of six pools: %d", e)
 	}
 }

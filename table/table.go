@@ -59,6 +59,16 @@ func Find(pools []api.Pool, name string) (api.Pool, bool) {
 	return api.Pool{}, false
 }
 
+// Has tells whether there is a pool of this name.
+func Has(pools []api.Pool, name string) bool {
+	for i := 0; i < len(pools); i++ {
+		if pools[i].Name == name {
+			return true
+		}
+	}
+	return false
+}
+
 // Copy is the same table, with a list of its own.
 func Copy(t api.Table) api.Table {
 	pools := append([]api.Pool{}, t.Pools...)

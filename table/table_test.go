@@ -66,20 +66,26 @@ func TestInsert(t *testing.T) {
 	}
 }
 
-func TestFind(t *testing.T) {
+func TestFindAndHas(t *testing.T) {
 	pools := []api.Pool{{Name: "a", Size: 1}, {Name: "ab", Size: 2}, {Name: "b", Size: 3}}
 	for i, name := range []string{"a", "ab", "b"} {
 		if p, ok := Find(pools, name); !ok || p != pools[i] {
 			t.Errorf("Find(%s) = %+v, %t", name, p, ok)
 		}
-	}
-	for _, name := range []string{"", "A", "abc", "c", "a "} {
-		if p, ok := Find(pools, name); ok {
-			t.Errorf("Find(%q) = %+v", name, p)
+		if !Has(pools, name) {
+			t.Errorf("Has(%s) = false", name)
 		}
 	}
-	if _, ok := Find(nil, ""); ok {
-		t.Error("Find in no pools")
+	for _, name := range []string{"", "A", "abc", "c", "a "} {
+		if p, ok := Find(pools, name); ok || p != (api.Pool{}) {
+			t.Errorf("Find(%q) = %+v, %t", name, p, ok)
+		}
+		if Has(pools, name) {
+			t.Errorf("Has(%q) = true", name)
+		}
+	}
+	if _, ok := Find(nil, ""); ok || Has(nil, "") {
+		t.Error("a pool was found among none")
 	}
 }
 
