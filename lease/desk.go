@@ -27,3 +27,6 @@ func (d *Desk) Show() api.State {
 	s.Waiters = append([]api.Waiter{}, d.waiters...)
 	return s
 }
+
+// Table is the table in force, with a list that is the caller's.
+func (d *Desk) Table() api.Table { return table.Copy(d.table) }

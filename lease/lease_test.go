@@ -133,3 +133,51 @@ func TestP9CrashBringsRoom(t *testing.T) {
 	}
 	d.check(t, "Crash", []api.Server{{Id: 2, Pool: "a", Client: 2}, {Id: 3, Pool: "a", Client: 3}}, []api.Waiter{{Client: 4, Pool: "a"}})
 }
+
+func TestP12AStepTakesEffectOnceAndServesAlways(t *testing.T) {
+	pools := []api.Pool{{Name: "a", Size: 2}, {Name: "b", Size: 1}}
+	servers := []api.Server{{Id: 1, Pool: "a", Client: 1}, {Id: 2, Pool: "a"}}
+	waiters := []api.Waiter{{Client: 3, Pool: "b"}}
+	d := deskOf(9, pools, servers, waiters)
+	if d.Turn(api.Step{Kind: api.Shrink, Name: "a", N: 1}, true) {
+		t.Error("Shrink is done with a server too many")
+	}
+	d.check(t, "begun", []api.Server{servers[0], servers[1], {Id: 3, Pool: "b", Client: 3}}, nil)
+	d = deskOf(9, pools, servers, waiters)
+	if !d.Turn(api.Step{Kind: api.Shrink, Name: "a", N: 1}, false) {
+		t.Error("Shrink is not done")
+	}
+	d.check(t, "not begun", []api.Server{servers[0], {Id: 3, Pool: "b", Client: 3}}, nil)
+	if got := d.Table().Pools[0].Size; got != 1 {
+		t.Errorf("the Size is %d", got)
+	}
+}
+
+func TestP12WhatMakesAStepDone(t *testing.T) {
+	servers := []api.Server{{Id: 1, Pool: "a", Far: 5, Client: 1}, {Id: 2, Pool: "b", Far: 6, Client: 2}, {Id: 3, Pool: "a", Far: 5, Client: 3}}
+	for _, c := range []struct {
+		step api.Step
+		done bool
+	}{
+		{api.Step{Kind: api.Shrink, Name: "a", N: 1}, false}, {api.Step{Kind: api.Shrink, Name: "a", N: 2}, true}, {api.Step{Kind: api.Shrink, Name: "b", N: 1}, true}, {api.Step{Kind: api.Shrink, Name: "b", N: 0}, false},
+		{api.Step{Kind: api.Drop, Name: "a"}, false}, {api.Step{Kind: api.Drop, Name: "b"}, false}, {api.Step{Kind: api.Drop, Name: "c"}, true},
+		{api.Step{Kind: api.Cut, N: 2}, false}, {api.Step{Kind: api.Cut, N: 3}, true}, {api.Step{Kind: api.Cut, N: 4}, true},
+		{api.Step{Kind: api.Add, Name: "c"}, true},
+		{api.Step{Kind: api.Move, Name: "a", N: 5}, true}, {api.Step{Kind: api.Move, Name: "a", N: 6}, false}, {api.Step{Kind: api.Move, Name: "b", N: 5}, false}, {api.Step{Kind: api.Move, Name: "c", N: 5}, true},
+		{api.Step{Kind: api.Hold, Name: "a", N: 0}, true}, {api.Step{Kind: api.Raise, N: 9}, true}, {api.Step{Kind: api.Grow, Name: "a", N: 9}, true},
+	} {
+		d := deskOf(1, nil, servers, nil)
+		if got := d.Turn(c.step, true); got != c.done {
+			t.Errorf("%+v is done: %v", c.step, got)
+		}
+		d.check(t, "a lease", servers, nil)
+	}
+}
+
+func TestTableIsTheCallers(t *testing.T) {
+	d := deskOf(1, []api.Pool{{Name: "a"}}, nil, nil)
+	d.Table().Pools[0].Name = "spoilt"
+	if got := d.Table(); got.Budget != 1 || len(got.Pools) != 1 || got.Pools[0].Name != "a" {
+		t.Errorf("the table became %+v", got)
+	}
+}

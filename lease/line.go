@@ -22,6 +22,17 @@ func waitersFor(waiters []api.Waiter, pool string) int {
 	return count
 }
 
+// lastWaiterFor is the one who came last of those who wait for a pool; where there is none, its Client is no client.
+func lastWaiterFor(waiters []api.Waiter, pool string) api.Waiter {
+	last := api.Waiter{}
+	for i := 0; i < len(waiters); i++ {
+		if waiters[i].Pool == pool {
+			last = waiters[i]
+		}
+	}
+	return last
+}
+
 func (d *Desk) join(client int, pool string) {
 	d.waiters = append(d.waiters, api.Waiter{Client: client, Pool: pool})
 }

@@ -37,22 +37,55 @@ func firstIdle(servers []api.Server) api.Server {
 
 // firstIdleOf is firstIdle among the servers of one pool.
 func firstIdleOf(servers []api.Server, pool string) api.Server {
+	those := serversOf(servers, pool)
+	return firstIdle(those)
+}
+
+// lastIdle is the idle server with the greatest Id; noServer is its Id if there is none.
+func lastIdle(servers []api.Server) api.Server {
+	last := api.Server{Id: noServer}
 	for i := 0; i < len(servers); i++ {
-		if servers[i].Pool == pool && servers[i].Client == idle {
-			return servers[i]
+		if servers[i].Client == idle {
+			last = servers[i]
 		}
 	}
-	return api.Server{Id: noServer}
+	return last
+}
+
+// lastIdleOf is lastIdle among the servers of one pool.
+func lastIdleOf(servers []api.Server, pool string) api.Server {
+	those := serversOf(servers, pool)
+	return lastIdle(those)
+}
+
+// serversOf is the servers of one pool, in a fresh list.
+func serversOf(servers []api.Server, pool string) []api.Server {
+	those := []api.Server{}
+	for i := 0; i < len(servers); i++ {
+		if servers[i].Pool == pool {
+			those = append(those, servers[i])
+		}
+	}
+	return those
 }
 
 func countOf(servers []api.Server, pool string) int {
-	count := 0
+	those := serversOf(servers, pool)
+	return len(those)
+}
+
+// hasOtherFar tells whether a server is of this pool, and was opened when the pool had another Far.
+func hasOtherFar(s api.Server, pool string, far int) bool {
+	return s.Pool == pool && s.Far != far
+}
+
+func anyOtherFar(servers []api.Server, pool string, far int) bool {
 	for i := 0; i < len(servers); i++ {
-		if servers[i].Pool == pool {
-			count++
+		if hasOtherFar(servers[i], pool, far) {
+			return true
 		}
 	}
-	return count
+	return false
 }
 
 // open opens a server of a pool and leases it to a client. The new Id is the greatest, so the servers stay in their order.
@@ -67,6 +100,18 @@ func (d *Desk) shut(id int) {
 	for i := 0; i < len(d.servers); i++ {
 		if d.servers[i].Id != id {
 			left = append(left, d.servers[i])
+		}
+	}
+	d.servers = left
+}
+
+// shutOtherFar closes the idle servers of a pool that have another Far than this one.
+func (d *Desk) shutOtherFar(pool string, far int) {
+	left := []api.Server{}
+	for i := 0; i < len(d.servers); i++ {
+		s := d.servers[i]
+		if s.Client != idle || !hasOtherFar(s, pool, far) {
+			left = append(left, s)
 		}
 	}
 	d.servers = left

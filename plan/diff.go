@@ -1,4 +1,4 @@
-// Package plan makes the steps from one table to another.
+// Package plan: the steps from one table to another, what each makes of a table, and how far they are taken.
 package plan
 
 import (
@@ -14,13 +14,18 @@ func Diff(a api.Table, b api.Table) ([]api.Step, api.Errno) {
 	if !table.IsTable(b) {
 		return nil, api.ErrTable
 	}
+	return between(a, b), api.OK
+}
+
+// between makes the steps from a to b, which are tables.
+func between(a api.Table, b api.Table) []api.Step {
 	steps := []api.Step{}
 	// The kinds are numbered in the order in which their steps are taken.
 	for kind := api.Shrink; kind <= api.Grow; kind++ {
 		some := stepsOf(kind, a, b)
 		steps = append(steps, some...)
 	}
-	return steps, api.OK
+	return steps
 }
 
 // stepsOf makes the steps of one kind. They are in the order of their names, since a table's pools are.

@@ -16,12 +16,13 @@ var oddNumbers = []int{math.MinInt, math.MinInt + 1, -1 << 32, -100, -99, -1, 0,
 
 var oddNames = []string{"", " ", "A", "ap", "appa", "app ", " app", "app\n", "APP", "b", "size", "from", "ä", "\xff", "\x00", strings.Repeat("a", 1<<16)}
 
-// desk is a pooler under test, and the model that its answers are held against.
+// desk is a pooler under test, the model that its answers are held against, and what P14 hangs on: the two tables between which the last plan leads, and the one that is in force when there is no plan.
 type desk struct {
-	t     *testing.T
-	p     *pooler.Pooler
-	m     *model
-	calls string
+	t                *testing.T
+	p                *pooler.Pooler
+	m                *model
+	calls            string
+	home, goal, rest api.Table
 }
 
 func begin(t *testing.T, text string) *desk {
@@ -32,7 +33,7 @@ func begin(t *testing.T, text string) *desk {
 		t.Fatalf("New(%q) = %v, %d, %d", text, p, e, line)
 	}
 	table, _, _ := oracleCompile(text)
-	d := &desk{t: t, p: p, m: newModel(table), calls: fmt.Sprintf("New(%q)", text)}
+	d := &desk{t: t, p: p, m: newModel(table), calls: fmt.Sprintf("New(%q)", text), home: table, goal: table, rest: table}
 	d.look()
 	return d
 }
@@ -49,17 +50,19 @@ func (d *desk) look() {
 	}
 }
 
-// end notes a call and holds its answer, and what is there behind it, against the model. An error leaves all as it was.
-func (d *desk) end(call string, before api.State, id, wantId int, e, wantE api.Errno) api.Errno {
+// end notes a call and holds its answer, and what is there behind it, against the model. An error leaves all as it was. The lease over, which names a client or an Id, may end.
+func (d *desk) end(call string, before api.State, over api.Server, n, wantN int, e, wantE api.Errno) api.Errno {
 	d.t.Helper()
 	d.calls += ", " + call
-	if id != wantId || e != wantE {
-		d.t.Fatalf("%s: %d, %d, want %d, %d", d.calls, id, e, wantId, wantE)
+	if n != wantN || e != wantE {
+		d.t.Fatalf("%s: %d, %d, want %d, %d", d.calls, n, e, wantN, wantE)
 	}
-	if after := d.p.Show(); e != api.OK && !sameState(before, after) {
+	after := d.p.Show()
+	if e != api.OK && !sameState(before, after) {
 		d.t.Fatalf("%s: error %d, and %+v became %+v", d.calls, e, before, after)
 	}
 	d.look()
+	d.lawful(before, after, over)
 	return e
 }
 
@@ -68,25 +71,25 @@ func (d *desk) ask(client int, pool string) (int, api.Errno) {
 	before := d.p.Show()
 	id, e := d.p.Ask(client, pool)
 	wantId, wantE := d.m.ask(client, pool)
-	return id, d.end(fmt.Sprintf("Ask(%d, %.20q)", client, pool), before, id, wantId, e, wantE)
+	return id, d.end(fmt.Sprintf("Ask(%d, %.20q)", client, pool), before, api.Server{}, id, wantId, e, wantE)
 }
 
 func (d *desk) done(client int) api.Errno {
 	d.t.Helper()
 	before := d.p.Show()
-	return d.end(fmt.Sprintf("Done(%d)", client), before, 0, 0, d.p.Done(client), d.m.done(client))
+	return d.end(fmt.Sprintf("Done(%d)", client), before, api.Server{Client: client}, 0, 0, d.p.Done(client), d.m.done(client))
 }
 
 func (d *desk) leave(client int) api.Errno {
 	d.t.Helper()
 	before := d.p.Show()
-	return d.end(fmt.Sprintf("Leave(%d)", client), before, 0, 0, d.p.Leave(client), d.m.leave(client))
+	return d.end(fmt.Sprintf("Leave(%d)", client), before, api.Server{}, 0, 0, d.p.Leave(client), d.m.leave(client))
 }
 
 func (d *desk) crash(id int) api.Errno {
 	d.t.Helper()
 	before := d.p.Show()
-	return d.end(fmt.Sprintf("Crash(%d)", id), before, 0, 0, d.p.Crash(id), d.m.crash(id))
+	return d.end(fmt.Sprintf("Crash(%d)", id), before, api.Server{Id: id}, 0, 0, d.p.Crash(id), d.m.crash(id))
 }
 
 // asks, dones, leaves and crashes hold an answer against what the document says itself, not against the model alone.
@@ -210,7 +213,7 @@ func TestP2ShowAnswersFreshLists(t *testing.T) {
 		d := begin(t, "budget 9|pool a size 4 wait 4 far 3|pool b size 4 wait 4|pool c size 5 wait 9")
 		answers, wants := []api.State{}, []api.State{}
 		for n := 0; n < 40; n++ {
-			randomCall(d, r)
+			anyCall(d, r)
 			early, late := d.p.Show(), d.p.Show()
 			answers, wants = append(answers, early), append(wants, cloneState(early))
 			spoil(late)
@@ -225,7 +228,7 @@ func TestP2ShowAnswersFreshLists(t *testing.T) {
 		}
 		d.look()
 		for n := 0; n < 10; n++ {
-			randomCall(d, r)
+			anyCall(d, r)
 		}
 	}
 }
@@ -266,7 +269,7 @@ func TestP2SeveralPoolers(t *testing.T) {
 		text := "budget 3|pool a size 2 wait 2|pool b wait 1 far 9"
 		desks := []*desk{begin(t, text), begin(t, text), begin(t, textX)}
 		for n := 0; n < 60; n++ {
-			randomCall(desks[r.Intn(len(desks))], r)
+			anyCall(desks[r.Intn(len(desks))], r)
 			for _, d := range desks {
 				d.look()
 			}
@@ -280,7 +283,7 @@ func TestP2SameCallsSameAnswers(t *testing.T) {
 		r := rand.New(rand.NewSource(5))
 		all := ""
 		for n := 0; n < 200; n++ {
-			randomCall(d, r)
+			anyCall(d, r)
 			all += fmt.Sprintf("%+v", d.p.Show())
 		}
 		return all

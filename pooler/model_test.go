@@ -7,12 +7,16 @@ import (
 	"pooler/api"
 )
 
-// model is a second pooler: what P6 to P9 say, written by other means, and held against the program.
+// model is a second pooler: what P6 to P9 and P11 to P13 say, written by other means, and held against the program.
 type model struct {
 	table   api.Table
 	servers map[int]*api.Server
 	line    []*api.Waiter
 	opened  int
+	steps   []api.Step
+	begun   bool
+	back    bool
+	home    api.Table
 }
 
 func newModel(t api.Table) *model {
@@ -28,6 +32,7 @@ func (m *model) show() api.State {
 	for _, w := range m.line {
 		s.Waiters = append(s.Waiters, *w)
 	}
+	s.Plan, s.Begun, s.Back = slices.Clone(m.steps), m.begun, m.back
 	return s
 }
 
@@ -179,6 +184,86 @@ func (m *model) crash(id int) api.Errno {
 	delete(m.servers, id)
 	m.serve()
 	return api.OK
+}
+
+// start makes steps the plan; if there are none, it is none.
+func (m *model) start(steps []api.Step, back bool) int {
+	m.steps, m.begun, m.back = steps, false, back && len(steps) > 0
+	return len(steps)
+}
+
+func (m *model) reload(text string) (int, api.Errno, int) {
+	if len(m.steps) > 0 {
+		return 0, api.ErrPlan, 0
+	}
+	goal, e, line := oracleCompile(text)
+	if e != api.OK {
+		return 0, e, line
+	}
+	m.home = api.Table{Budget: m.table.Budget, Pools: slices.Clone(m.table.Pools)}
+	return m.start(modelDiff(m.table, goal), false), api.OK, 0
+}
+
+func (m *model) abort() (int, api.Errno) {
+	if len(m.steps) == 0 {
+		return 0, api.ErrIdle
+	}
+	if m.back {
+		return 0, api.ErrBack
+	}
+	return m.start(modelDiff(m.table, m.home), true), api.OK
+}
+
+func (m *model) turn() (int, api.Errno) {
+	if len(m.steps) == 0 {
+		return 0, api.ErrIdle
+	}
+	step := m.steps[0]
+	if !m.begun {
+		m.table = taken(m.table, m.steps[:1])
+		m.effect(step)
+	}
+	m.begun = true
+	m.serve()
+	if m.isDone(step) {
+		m.start(m.steps[1:], m.back)
+	}
+	return len(m.steps), api.OK
+}
+
+// effect is what a step does to servers and to the line as it begins.
+func (m *model) effect(step api.Step) {
+	idle := m.those(func(s *api.Server) bool { return s.Client == 0 && (step.Name == "" || s.Pool == step.Name) })
+	slices.Reverse(idle)
+	waiting := 0
+	for _, w := range m.line {
+		if w.Pool == step.Name {
+			waiting++
+		}
+	}
+	for _, s := range idle {
+		if step.Kind == api.Drop || step.Kind == api.Move && s.Far != step.N || (step.Kind == api.Shrink || step.Kind == api.Cut) && !m.isDone(step) {
+			delete(m.servers, s.Id)
+		}
+	}
+	for at := len(m.line) - 1; at >= 0; at-- {
+		if m.line[at].Pool == step.Name && (step.Kind == api.Drop || step.Kind == api.Hold && waiting > step.N) {
+			m.line = slices.Delete(m.line, at, at+1)
+			waiting--
+		}
+	}
+}
+
+func (m *model) isDone(step api.Step) bool {
+	switch step.Kind {
+	case api.Shrink, api.Drop:
+		return len(m.of(step.Name)) <= step.N
+	case api.Cut:
+		return len(m.servers) <= step.N
+	case api.Move:
+		return !slices.ContainsFunc(m.of(step.Name), func(s *api.Server) bool { return s.Far != step.N })
+	}
+	return true
 }
 
 // modelDiff gathers what P10 says in whatever order it comes, and sorts it.

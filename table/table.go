@@ -49,6 +49,17 @@ func Insert(pools []api.Pool, p api.Pool) []api.Pool {
 	return longer
 }
 
+// Without answers a fresh list: the pools, but for the one of this name.
+func Without(pools []api.Pool, name string) []api.Pool {
+	others := []api.Pool{}
+	for i := 0; i < len(pools); i++ {
+		if pools[i].Name != name {
+			others = append(others, pools[i])
+		}
+	}
+	return others
+}
+
 // Find is the pool of this name; false: there is none.
 func Find(pools []api.Pool, name string) (api.Pool, bool) {
 	for i := 0; i < len(pools); i++ {

@@ -66,6 +66,28 @@ func TestInsert(t *testing.T) {
 	}
 }
 
+func TestWithout(t *testing.T) {
+	room := []api.Pool{{Name: "a"}, {Name: "ab"}, {Name: "b"}, {Name: "spare"}}
+	for _, c := range []struct{ name, want string }{
+		{"a", "ab b"}, {"ab", "a b"}, {"b", "a ab"}, {"spare", "a ab b"}, {"", "a ab b"},
+	} {
+		got := Without(room[:3], c.name)
+		names := []string{}
+		for _, p := range got {
+			names = append(names, p.Name)
+		}
+		if strings.Join(names, " ") != c.want {
+			t.Errorf("Without %q: %v, want %s", c.name, names, c.want)
+		}
+		for i := range got[:cap(got)] {
+			got[:cap(got)][i].Name = "x"
+		}
+		if room[0].Name != "a" || room[1].Name != "ab" || room[2].Name != "b" || room[3].Name != "spare" {
+			t.Fatalf("Without %q wrote into the list: %v", c.name, room)
+		}
+	}
+}
+
 func TestFindAndHas(t *testing.T) {
 	pools := []api.Pool{{Name: "a", Size: 1}, {Name: "ab", Size: 2}, {Name: "b", Size: 3}}
 	for i, name := range []string{"a", "ab", "b"} {
